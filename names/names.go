@@ -39,9 +39,26 @@ func Star(name string) string {
 	return star + "." + name
 }
 
+// FromLabels gives the text of labels of any bytes: labels that are the same
+// but for capital letters have the same text, others have not. It is as long
+// as the labels with a point between.
+func FromLabels(labels ...string) string {
+	texts := make([]string, len(labels))
+	for i, label := range labels {
+		texts[i] = fold(label)
+	}
+	return strings.Join(texts, ".")
+}
+
 // Under tells whether a name is another one, or has labels ahead of it.
 func Under(name, other string) bool {
 	return name == other || strings.HasSuffix(name, "."+other)
+}
+
+// First gives a name's first label.
+func First(name string) string {
+	label, _, _ := strings.Cut(name, ".")
+	return label
 }
 
 // Ends gives all ends of a name: the whole, without its first label, and so on.
@@ -59,6 +76,21 @@ func Ends(name string) iter.Seq[string] {
 func Ancestors(name string) iter.Seq[string] {
 	_, rest, _ := strings.Cut(name, ".")
 	return Ends(rest)
+}
+
+// fold makes capital letters small. As none is left then, one stands for a
+// point within a label, which would part it.
+func fold(label string) string {
+	text := []byte(label)
+	for i, b := range text {
+		switch {
+		case 'A' <= b && b <= 'Z':
+			text[i] = b - 'A' + 'a'
+		case b == '.':
+			text[i] = 'P'
+		}
+	}
+	return string(text)
 }
 
 func isLabel(text string) bool {

@@ -43,6 +43,54 @@ func TestUnder(t *testing.T) {
 	}
 }
 
+func TestFromLabels(t *testing.T) {
+	for _, c := range []struct {
+		labels []string
+		want   string
+	}{
+		{nil, ""}, {[]string{"a"}, "a"}, {[]string{"WeB", "eXample", "ORG"}, "web.example.org"}, {[]string{"AZ", "@[`{"}, "az.@[`{"},
+		{[]string{"*", "a"}, "*.a"}, {[]string{"\x00\xff\xc1 ", "0-_9"}, "\x00\xff\xc1 .0-_9"},
+	} {
+		if got := FromLabels(c.labels...); got != c.want {
+			t.Errorf("FromLabels(%q) = %q, want %q", c.labels, got, c.want)
+		}
+	}
+	// Labels that are not the same have not the same text.
+	texts := map[string][]string{}
+	for _, labels := range [][]string{
+		{"a", "b"}, {"a.b"}, {"apb"}, {"a", "", "b"}, {"a..b"}, {"ab"}, {"a", "b", "c"}, {"a.b", "c"}, {"a", "b.c"}, {"a.b.c"}, {"a,b"}, {"."}, {"p"}, {".", "."}, {"..", "."}, {"\xae"},
+	} {
+		text := FromLabels(labels...)
+		if other, ok := texts[text]; ok {
+			t.Errorf("%q and %q have the text %q", labels, other, text)
+		}
+		texts[text] = labels
+		if len(text) != len(strings.Join(labels, ".")) {
+			t.Errorf("FromLabels(%q) = %q: another length", labels, text)
+		}
+	}
+	if Valid(FromLabels("a.b")) {
+		t.Error("a label with a point is a name")
+	}
+	if FromLabels("a.B", "C") != FromLabels("A.b", "c") {
+		t.Error("capital letters matter")
+	}
+}
+
+func TestStar(t *testing.T) {
+	if got := Star("a.b"); got != "*.a.b" || !Starred(got) || Starred("a.b") {
+		t.Errorf("Star(a.b) = %q", got)
+	}
+}
+
+func TestFirst(t *testing.T) {
+	for name, want := range map[string]string{"": "", "a": "a", "ab.c.d": "ab", "*.a": "*"} {
+		if got := First(name); got != want {
+			t.Errorf("First(%q) = %q", name, got)
+		}
+	}
+}
+
 func TestEnds(t *testing.T) {
 	for _, c := range []struct {
 		name string

@@ -62,3 +62,54 @@ func TestOwners(t *testing.T) {
 		}
 	}
 }
+
+func sortedSample() []api.Record {
+	list := append(sample(), record("c.a", 1, "x"), record("d.c.a", 1, "x"), record("ca", 1, "x"), record("*.b", 1, "x"))
+	Sort(list)
+	return list
+}
+
+func TestSort(t *testing.T) {
+	if got, want := told(sortedSample()), "*.b1x a1x a1y a1z a2x b2x c.a1x ca1x d.c.a1x "; got != want {
+		t.Errorf("Sort: %q, want %q", got, want)
+	}
+	// It keeps the order of one owner and type.
+	list := []api.Record{record("b", 1, "y"), record("a", 2, "z"), record("b", 1, "x"), record("a", 1, "y"), record("a", 2, "x"), record("a", 1, "x")}
+	Sort(list)
+	if got, want := told(list), "a1y a1x a2z a2x b1y b1x "; got != want {
+		t.Errorf("Sort: %q, want %q", got, want)
+	}
+}
+
+func TestUnder(t *testing.T) {
+	for name, want := range map[string]string{"a": "a: a1x a1y a1z a2x |c.a: c.a1x |d.c.a: d.c.a1x |", "c.a": "c.a: c.a1x |d.c.a: d.c.a1x |", "b": "*.b: *.b1x |b: b2x |", "x": ""} {
+		got := ""
+		for owner, own := range Under(sortedSample(), name) {
+			got += owner + ": " + told(own) + "|"
+		}
+		if got != want {
+			t.Errorf("Under %q: %q, want %q", name, got, want)
+		}
+	}
+	for owner := range Under(sortedSample(), "a") {
+		if owner == "c.a" {
+			break
+		}
+	}
+}
+
+func TestOfAndSet(t *testing.T) {
+	list := sortedSample()
+	if got := told(Of(list, "a")); got != "a1x a1y a1z a2x " {
+		t.Errorf("Of a: %q", got)
+	}
+	if got := told(Of(list, "c")) + told(Of(nil, "a")); got != "" {
+		t.Errorf("Of c: %q", got)
+	}
+	if got := told(Set(list, "a", 1)) + "|" + told(Set(list, "a", 2)); got != "a1x a1y a1z |a2x " {
+		t.Errorf("Set of a: %q", got)
+	}
+	if got := told(Set(list, "a", 3)) + told(Set(list, "c", 1)); got != "" {
+		t.Errorf("Set of what is not there: %q", got)
+	}
+}

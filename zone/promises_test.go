@@ -141,15 +141,3 @@ func TestAnswersDependOnArguments(t *testing.T) {
 		t.Error("P2: another answer of the same zone")
 	}
 }
-
-func TestCancel(t *testing.T) {
-	c := newCancel()
-	if c.asked() || newCancel().asked() {
-		t.Error("a new cancel was asked for")
-	}
-	c.call()
-	c.call()
-	if !c.asked() || !c.asked() {
-		t.Error("a cancel that was asked for is not")
-	}
-}

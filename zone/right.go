@@ -1,7 +1,6 @@
 package zone
 
 import (
-	"cmp"
 	"slices"
 
 	"beacon/api"
@@ -18,28 +17,22 @@ func startsRight(origin string, list []api.Record) bool {
 	return list[0].Owner == origin && list[0].Type == api.SOA && !has(list[1:], api.SOA)
 }
 
-// sorted puts RRsets together. It is stable, for those of one owner and type
-// keep the order of the text.
-func sorted(list []api.Record) []api.Record {
-	slices.SortStableFunc(list, func(a, b api.Record) int {
-		return cmp.Or(cmp.Compare(a.Owner, b.Owner), cmp.Compare(a.Type, b.Type))
-	})
-	return list
-}
-
-// isRight tells what does not hang on the text's order.
-func (z *Zone) isRight() bool {
-	for set := range records.Sets(z.list) {
+// isRight tells what does not hang on the text's order, of a sorted list.
+func isRight(origin string, list []api.Record) bool {
+	for set := range records.Sets(list) {
 		if !isRightSet(set) {
 			return false
 		}
 	}
-	for owner, list := range records.Owners(z.list) {
-		if !z.isRightOwner(owner, list) {
+	for owner, own := range records.Owners(list) {
+		if !names.Under(owner, origin) || has(own, api.CNAME) && len(own) > 1 {
+			return false
+		}
+		if owner != origin && has(own, api.NS) && !isRightCut(owner, list) {
 			return false
 		}
 	}
-	return len(z.set(z.origin, api.NS)) > 0
+	return len(records.Set(list, origin, api.NS)) > 0
 }
 
 // isRightSet tells whether an RRset has one TTL and no record twice.
@@ -52,25 +45,16 @@ func isRightSet(set []api.Record) bool {
 	return true
 }
 
-func (z *Zone) isRightOwner(owner string, list []api.Record) bool {
-	if !names.Under(owner, z.origin) {
-		return false
-	}
-	if has(list, api.CNAME) && len(list) > 1 {
-		return false
-	}
-	return owner == z.origin || !has(list, api.NS) || z.isRightCut(owner)
-}
-
 // isRightCut tells whether a cut has but NS, what is under it but A, and none
 // of them a star.
-func (z *Zone) isRightCut(cut string) bool {
-	for owner, list := range z.under(cut) {
+func isRightCut(cut string, list []api.Record) bool {
+	for owner, own := range records.Under(list, cut) {
 		kind := api.A
 		if owner == cut {
 			kind = api.NS
 		}
-		if names.Starred(owner) || len(setOf(list, kind)) != len(list) {
+		other := func(r api.Record) bool { return r.Type != kind }
+		if names.Starred(owner) || slices.ContainsFunc(own, other) {
 			return false
 		}
 	}

@@ -1,7 +1,8 @@
-package zone
+package lookup
 
 import (
 	"slices"
+	"strconv"
 	"strings"
 
 	"beacon/api"
@@ -11,23 +12,24 @@ import (
 
 // search is one lookup under way: what it has found for a type so far.
 type search struct {
-	zone   *Zone
+	table  *Table
 	kind   int
 	found  api.Answer
 	cancel *cancel
 }
 
-// answer tells what the zone answers to any name and type.
-func (z *Zone) answer(name string, kind int) api.Answer {
-	if !names.Under(name, z.origin) {
+// Answer tells what the zone answers to a name, as names.FromLabels gives it,
+// and a type. No name is under the origin of no table.
+func (t *Table) Answer(name string, kind int) api.Answer {
+	if t == nil || !names.Under(name, t.origin) {
 		return api.Answer{Rcode: api.Refused}
 	}
-	s := &search{zone: z, kind: kind, cancel: newCancel()}
-	s.found.Authoritative = len(z.cutOver(name)) == 0
+	s := &search{table: t, kind: kind, cancel: newCancel()}
+	s.found.Authoritative = len(t.cutOver(name)) == 0
 	if !s.follow(name) {
 		return api.Answer{Rcode: api.ServFail, Authoritative: true}
 	}
-	s.found.Additional = z.additional(s.found)
+	s.found.Additional = t.additional(s.found)
 	return s.found
 }
 
@@ -46,21 +48,21 @@ func (s *search) follow(name string) bool {
 // step adds what a name under the origin brings, and gives the one to go on
 // with, if there is one.
 func (s *search) step(name string) (string, bool) {
-	if cut := s.zone.cutOver(name); len(cut) > 0 {
+	if cut := s.table.cutOver(name); len(cut) > 0 {
 		s.found.Authority = slices.Clone(cut)
 		return "", false
 	}
-	list, ok := s.zone.match(name)
+	list, ok := s.table.match(name)
 	if !ok {
 		s.found.Rcode = api.NXDomain
-		s.found.Authority = s.zone.denial()
+		s.found.Authority = s.table.denial()
 		return "", false
 	}
-	if s.kind != api.CNAME && s.kind != api.Any && has(list, api.CNAME) {
+	if s.kind != api.CNAME && s.kind != api.Any && isAlias(list) {
 		return s.link(list[0])
 	}
 	if !s.take(list) {
-		s.found.Authority = s.zone.denial()
+		s.found.Authority = s.table.denial()
 	}
 	return "", false
 }
@@ -73,7 +75,12 @@ func (s *search) link(cname api.Record) (string, bool) {
 		return cname.Data, true
 	}
 	s.found.Answer = append(s.found.Answer, cname)
-	return cname.Data, names.Under(cname.Data, s.zone.origin)
+	return cname.Data, names.Under(cname.Data, s.table.origin)
+}
+
+// isAlias tells whether a name's records are a CNAME: that stands alone.
+func isAlias(list []api.Record) bool {
+	return len(list) == 1 && list[0].Type == api.CNAME
 }
 
 // take adds the records of the asked type, and tells whether there were any.
@@ -90,13 +97,13 @@ func (s *search) take(list []api.Record) bool {
 
 // cutOver gives the NS of the cut that a name is under, the one nearest to the
 // origin.
-func (z *Zone) cutOver(name string) []api.Record {
+func (t *Table) cutOver(name string) []api.Record {
 	var cut []api.Record
 	for end := range names.Ends(name) {
-		if end == z.origin {
+		if end == t.origin {
 			break
 		}
-		if set := z.set(end, api.NS); len(set) > 0 {
+		if set := t.set(end, api.NS); len(set) > 0 {
 			cut = set
 		}
 	}
@@ -105,13 +112,13 @@ func (z *Zone) cutOver(name string) []api.Record {
 
 // match gives the records that stand for a name, its own or a star's, and
 // tells whether there is anything (a name may be there without records).
-func (z *Zone) match(name string) ([]api.Record, bool) {
-	if z.isThere(name) {
-		return z.of(name), true
+func (t *Table) match(name string) ([]api.Record, bool) {
+	if t.isThere(name) {
+		return t.of(name), true
 	}
 	for ancestor := range names.Ancestors(name) {
-		if z.isThere(ancestor) {
-			list := owned(name, z.of(names.Star(ancestor)))
+		if t.isThere(ancestor) {
+			list := owned(name, t.of(names.Star(ancestor)))
 			return list, len(list) > 0
 		}
 	}
@@ -128,17 +135,17 @@ func owned(owner string, list []api.Record) []api.Record {
 }
 
 // denial gives the SOA as it stands in the authority.
-func (z *Zone) denial() []api.Record {
-	soa := slices.Clone(z.set(z.origin, api.SOA))
+func (t *Table) denial() []api.Record {
+	soa := slices.Clone(t.set(t.origin, api.SOA))
 	for i, r := range soa {
-		minimum, _ := readNumber(lastWord(r.Data), api.MaxTTL)
-		soa[i].TTL = min(r.TTL, int(minimum))
+		minimum, _ := strconv.Atoi(lastWord(r.Data))
+		soa[i].TTL = min(r.TTL, minimum)
 	}
 	return soa
 }
 
 // additional gives the addresses of what the NS and MX of an answer name.
-func (z *Zone) additional(found api.Answer) []api.Record {
+func (t *Table) additional(found api.Answer) []api.Record {
 	var list []api.Record
 	var targets []string
 	for _, r := range slices.Concat(found.Answer, found.Authority) {
@@ -147,7 +154,7 @@ func (z *Zone) additional(found api.Answer) []api.Record {
 			continue
 		}
 		targets = append(targets, target)
-		for _, address := range z.set(target, api.A) {
+		for _, address := range t.set(target, api.A) {
 			if !slices.Contains(found.Answer, address) {
 				list = append(list, address)
 			}

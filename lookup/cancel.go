@@ -1,4 +1,4 @@
-package zone
+package lookup
 
 // cancel ends a lookup from within: CNAMEs may go round for ever.
 type cancel struct {
