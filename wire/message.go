@@ -40,6 +40,13 @@ func newMessage() *message {
 	return &message{bytes: make([]byte, headerSize)}
 }
 
+// written gives the bytes of fields alone, without a header ahead.
+func written(fields ...field) string {
+	m := &message{}
+	m.put(fields...)
+	return string(m.bytes)
+}
+
 // put writes fields.
 func (m *message) put(fields ...field) {
 	for _, f := range fields {
@@ -49,12 +56,11 @@ func (m *message) put(fields ...field) {
 
 // under gives the whole message, with its header.
 func (m *message) under(h header) string {
-	head := &message{}
-	head.put(short(h.id), short(h.bits))
+	fields := []field{short(h.id), short(h.bits)}
 	for _, n := range h.counts {
-		head.put(short(n))
+		fields = append(fields, short(n))
 	}
-	copy(m.bytes, head.bytes)
+	copy(m.bytes, written(fields...))
 	return string(m.bytes)
 }
 

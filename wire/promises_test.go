@@ -60,6 +60,57 @@ func TestEndsAtAllMessages(t *testing.T) {
 	}
 }
 
+// P1, P6: a frame changed at any place ends, and is answered as it should be.
+func TestEndsAtAllFrames(t *testing.T) {
+	z := mustParse(t, example)
+	try := func(frame string) {
+		t.Helper()
+		if got, want := Handle(z, card, frame), expected(z, card, frame); got != want {
+			t.Fatalf("P1, P6: Handle(%q) = %q, want %q", frame, got, want)
+		}
+	}
+	unchecked := change(inUDP(webAsk), 40, "\x00\x00")
+	for _, frame := range []string{inUDP(webAsk), unchecked, who(allMACs, asking, "target", cardIP)} {
+		for i := range frame {
+			try(frame[:i])
+			try(frame[i:])
+			for b := range 256 {
+				sign := string([]byte{byte(b)})
+				try(change(frame, i, sign))
+				try(frame[:i] + sign + frame[i:])
+			}
+		}
+	}
+	for _, sign := range []string{"\x00", "\x45", "\xff"} {
+		try(strings.Repeat(sign, 1<<17))
+		try(cardMAC + otherMAC + "\x08\x00" + strings.Repeat(sign, 1<<17))
+		try(cardMAC + otherMAC + "\x08\x06" + strings.Repeat(sign, 1<<17))
+	}
+	source := rand.New(rand.NewSource(2))
+	for range 20000 {
+		bytes := make([]byte, source.Intn(60))
+		source.Read(bytes)
+		try(inPacket(udp(otherIP, cardIP, source.Intn(65536), 53, string(bytes))))
+		try(inPacket(string(bytes)))
+		try(cardMAC + otherMAC + "\x08\x06" + string(bytes))
+	}
+}
+
+// P1: a card of which nothing is said does not stop it.
+func TestNoCard(t *testing.T) {
+	z := mustParse(t, example)
+	for _, mac := range []string{"", "m", cardMAC, cardMAC + "x", allMACs, strings.Repeat("m", 70000)} {
+		for _, ip := range []string{"", "i", cardIP, cardIP + "x", strings.Repeat("i", 70000)} {
+			c := api.Config{MAC: mac, IP: ip}
+			for _, frame := range []string{"", mac, allMACs, inUDP(webAsk), change(inUDP(webAsk), 0, allMACs), who(allMACs, asking, "target", cardIP), mac + ip} {
+				if Handle(z, c, frame) != Handle(z, c, frame) {
+					t.Errorf("P2: two answers to %q", frame)
+				}
+			}
+		}
+	}
+}
+
 // P1: what Parse gives beside an error can be asked, too.
 func TestNoZone(t *testing.T) {
 	z, _ := zone.Parse("")
@@ -68,6 +119,8 @@ func TestNoZone(t *testing.T) {
 	}
 	replies(t, z, "", "")
 	replies(t, z, head(7, 0, 0, 0, 0, 0), head(7, 0x8001, 0, 0, 0, 0))
+	handles(t, z, inUDP(webAsk), backUDP(Reply(z, webAsk)))
+	handles(t, z, who(allMACs, asking, "target", cardIP), mineIs)
 }
 
 // P2: neither other zones nor calls ahead or beside are seen in a reply.
@@ -83,6 +136,7 @@ func TestRepliesDependOnArguments(t *testing.T) {
 		var s strings.Builder
 		for _, message := range messages {
 			s.WriteString(Reply(z, message))
+			s.WriteString(Handle(z, card, inUDP(message)))
 		}
 		return s.String()
 	}

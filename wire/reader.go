@@ -7,25 +7,28 @@ type reader struct {
 	broken bool
 }
 
-// take gives the next bytes. They are that many in any case, so that nobody
-// has to ask whether it is broken ahead of the end.
+// take gives the next bytes, or none at all if there are not so many.
 func (r *reader) take(n int) string {
 	if n > len(r.rest) {
 		r.broken, r.rest = true, ""
-		return string(make([]byte, n))
+		return ""
 	}
 	taken := r.rest[:n]
 	r.rest = r.rest[n:]
 	return taken
 }
 
+// octet gives a number in any case, so that nobody has to ask whether the
+// reader is broken ahead of the end.
 func (r *reader) octet() int {
-	return int(r.take(1)[0])
+	if taken := r.take(1); taken != "" {
+		return int(taken[0])
+	}
+	return 0
 }
 
 func (r *reader) short() int {
-	b := r.take(2)
-	return int(b[0])<<8 | int(b[1])
+	return r.octet()<<8 | r.octet()
 }
 
 // labels reads a name without pointers.

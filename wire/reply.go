@@ -52,9 +52,7 @@ func (q query) last(rcode int) string {
 	if !q.hasOPT {
 		return ""
 	}
-	m := &message{}
-	m.put(compressed(""), short(typeOPT), short(api.MaxUDP), octet(rcode>>4), raw("\x00\x00\x00"), sized{})
-	return string(m.bytes)
+	return written(compressed(""), short(typeOPT), short(api.MaxUDP), octet(rcode>>4), raw("\x00\x00\x00"), sized{})
 }
 
 // fill writes RRsets, list by list, as long as the message stays within a
